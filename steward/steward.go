@@ -3,7 +3,9 @@ package steward
 
 import (
 	"steward/api"
+	"steward/full"
 	"steward/heap"
+	"steward/program"
 )
 
 // Heap is words, some of which are in blocks.
@@ -36,7 +38,21 @@ func (h *Heap) Store(at int, value int) api.Errno { return h.inner.Store(at, val
 func (h *Heap) Runs() []api.Span { return h.inner.Runs() }
 
 // Check tells whether a text is a program in which no box is used that may be empty (P6, P7).
-func Check(s string) (api.Errno, int) { return api.OK, 0 }
+func Check(s string) (api.Errno, int) {
+	if len(s) > api.MaxText {
+		return api.ErrLong, 0
+	}
+	parts, e, place := program.Read(s)
+	if e != api.OK {
+		return e, place
+	}
+	around := full.Find(parts)
+	place, found := full.FirstEmpty(parts, around)
+	if found {
+		return api.ErrEmpty, place
+	}
+	return api.OK, 0
+}
 
 // Play runs a program as it is written (P8).
 func Play(s string, fuel int) (api.Outcome, api.Errno) { return api.Outcome{}, api.OK }
