@@ -34,7 +34,7 @@ func (r *reader) part() {
 	first := r.peek()
 	switch {
 	case isNumber(first):
-		r.toNumber()
+		r.toNumber(first)
 	case isBox(first):
 		r.toBox()
 	case first == '~':
@@ -53,8 +53,8 @@ func (r *reader) part() {
 }
 
 // toNumber reads a sentence that begins with a number's letter.
-func (r *reader) toNumber() {
-	part := Part{Kind: Plain, Place: r.at}
+func (r *reader) toNumber(letter byte) {
+	part := Part{Kind: Reckon, Place: r.at, Number: int(letter - 'a')}
 	r.at++
 	r.take('=')
 	next := r.peek()
@@ -66,22 +66,23 @@ func (r *reader) toNumber() {
 	case isBox(next):
 		part.Kind = Load
 		part.Box = r.box()
-		r.index()
+		part.First = r.index()
 	default:
-		r.reckoning()
+		r.reckoning(&part)
 	}
 	r.take(';')
 	r.parts = append(r.parts, part)
 }
 
 // reckoning reads an operand, or two with a sign between them.
-func (r *reader) reckoning() {
-	r.operand()
+func (r *reader) reckoning(part *Part) {
+	part.First = r.operand()
 	sign := r.peek()
 	switch sign {
 	case '+', '-', '*', '/', '<':
 		r.take(sign)
-		r.operand()
+		part.Sign = sign
+		part.Second = r.operand()
 	}
 }
 
@@ -90,9 +91,9 @@ func (r *reader) toBox() {
 	part := Part{Kind: Store, Place: r.at}
 	part.Box = r.box()
 	if r.peek() == '[' {
-		r.index()
+		part.First = r.index()
 		r.take('=')
-		r.operand()
+		part.Second = r.operand()
 	} else {
 		r.take('=')
 		r.block(&part)
@@ -105,7 +106,7 @@ func (r *reader) toBox() {
 func (r *reader) block(part *Part) {
 	if r.peek() == '[' {
 		part.Kind = Make
-		r.index()
+		part.First = r.index()
 		return
 	}
 	part.Kind = Move
@@ -121,9 +122,9 @@ func (r *reader) ending() {
 }
 
 func (r *reader) printing() {
-	part := Part{Kind: Plain, Place: r.at}
+	part := Part{Kind: Print, Place: r.at}
 	r.take('!')
-	r.operand()
+	part.First = r.operand()
 	r.take(';')
 	r.parts = append(r.parts, part)
 }
@@ -132,7 +133,7 @@ func (r *reader) printing() {
 func (r *reader) opening(sign byte, kind int) {
 	part := Part{Kind: kind, Place: r.at}
 	r.take(sign)
-	r.operand()
+	part.First = r.operand()
 	if r.peek() == '{' && len(r.open) >= api.MaxDeep {
 		r.refuse(api.ErrDeep)
 	}
@@ -150,6 +151,7 @@ func (r *reader) closing() {
 	}
 	part := Part{Place: r.at, Opener: r.open[last]}
 	r.open = r.open[:last]
+	r.parts[part.Opener].Closer = len(r.parts)
 	r.take('}')
 	switch r.parts[part.Opener].Kind {
 	case Branch:
@@ -165,25 +167,38 @@ func (r *reader) closing() {
 }
 
 // index reads an operand in brackets.
-func (r *reader) index() {
+func (r *reader) index() Operand {
 	r.take('[')
-	r.operand()
+	inside := r.operand()
 	r.take(']')
+	return inside
 }
 
-func (r *reader) operand() {
+func (r *reader) operand() Operand {
 	first := r.peek()
 	if isNumber(first) {
 		r.at++
-		return
+		return Operand{IsNumber: true, Value: int(first - 'a')}
 	}
 	if !isDigit(first) {
 		r.refuse(api.ErrSyntax)
-		return
+		return Operand{}
 	}
-	for n := 0; n < maxDigits && isDigit(r.peek()); n++ {
+	return Operand{Value: r.value()}
+}
+
+// value reads as many digits as there are, up to maxDigits.
+func (r *reader) value() int {
+	value := 0
+	for n := 0; n < maxDigits; n++ {
+		digit := r.peek()
+		if !isDigit(digit) {
+			return value
+		}
+		value = value*10 + int(digit-'0')
 		r.at++
 	}
+	return value
 }
 
 // box reads the letter of a box and tells the box's number.

@@ -6,6 +6,7 @@ import (
 	"steward/full"
 	"steward/heap"
 	"steward/program"
+	"steward/run"
 )
 
 // Heap is words, some of which are in blocks.
@@ -55,10 +56,26 @@ func Check(s string) (api.Errno, int) {
 }
 
 // Play runs a program as it is written (P8).
-func Play(s string, fuel int) (api.Outcome, api.Errno) { return api.Outcome{}, api.OK }
+func Play(s string, fuel int) (api.Outcome, api.Errno) {
+	e, _ := Check(s)
+	if e != api.OK {
+		return api.Outcome{}, e
+	}
+	parts, _, _ := program.Read(s)
+	return run.Play(parts, fuel)
+}
 
 // Exec runs a lowered program on a heap (P9).
-func Exec(t string, words int, fuel int) (api.Outcome, api.Errno) { return api.Outcome{}, api.OK }
+func Exec(t string, words int, fuel int) (api.Outcome, api.Errno) {
+	if len(t) > api.MaxLow {
+		return api.Outcome{}, api.ErrLong
+	}
+	parts, e, _ := program.Read(t)
+	if e != api.OK {
+		return api.Outcome{}, e
+	}
+	return run.Exec(parts, words, fuel)
+}
 
 // Lower puts into a program what gives its blocks back (P10).
 func Lower(s string) (string, api.Errno) { return "", api.OK }
