@@ -8,13 +8,14 @@ type Set uint32
 const all Set = 1<<program.Boxes - 1
 
 // Has tells whether a box is in the set.
-func (s Set) Has(box int) bool { return s&only(box) != 0 }
+func (s Set) Has(box int) bool { return s&Only(box) != 0 }
 
-func (s Set) with(box int) Set { return s | only(box) }
+func (s Set) with(box int) Set { return s | Only(box) }
 
-func (s Set) without(box int) Set { return s &^ only(box) }
+func (s Set) without(box int) Set { return s &^ Only(box) }
 
-func only(box int) Set {
+// Only is the set of one box.
+func Only(box int) Set {
 	if box < 0 || box >= program.Boxes {
 		return 0
 	}

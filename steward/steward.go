@@ -5,6 +5,7 @@ import (
 	"steward/api"
 	"steward/full"
 	"steward/heap"
+	"steward/lower"
 	"steward/program"
 	"steward/run"
 )
@@ -78,4 +79,12 @@ func Exec(t string, words int, fuel int) (api.Outcome, api.Errno) {
 }
 
 // Lower puts into a program what gives its blocks back (P10).
-func Lower(s string) (string, api.Errno) { return "", api.OK }
+func Lower(s string) (string, api.Errno) {
+	e, _ := Check(s)
+	if e != api.OK {
+		return "", e
+	}
+	parts, _, _ := program.Read(s)
+	around := full.Find(parts)
+	return lower.Text(s, parts, around), api.OK
+}
